@@ -1,0 +1,1 @@
+"""Crewstep: complete crews step past anyone."""
