@@ -1,6 +1,7 @@
 """Rosters: which badges there are, and how many people form a crew of each."""
 
 from crewstep.errors import InvalidBadge, InvalidRoster
+from crewstep.values import is_int
 
 MAX_BADGES = 4
 MAX_SIZE = 5
@@ -51,5 +52,4 @@ def _is_badge(thing):
 
 
 def _is_size(thing):
-    # True and False are not integers here, but Python counts them among int.
-    return isinstance(thing, int) and not isinstance(thing, bool) and 0 <= thing <= MAX_SIZE
+    return is_int(thing) and 0 <= thing <= MAX_SIZE
