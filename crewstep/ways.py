@@ -48,7 +48,7 @@ def _way_to_standard(roster, line):
     """Return, as a list, a walk from the line to the standard line of its form.
 
     Each crew walks once, to its place among the crews that are already behind the rest. It passes
-    less than n people, and there are at most n crews: these are less than n * n steps.
+    fewer than n people, and there are at most n crews: these are at most n * n steps.
     """
     sizes = dict(roster)
     walk = []
