@@ -5,7 +5,7 @@ import copy
 import itertools
 import unittest
 
-from crewstep.errors import InvalidPeople, InvalidRoster
+from crewstep.errors import InvalidForm, InvalidPeople, InvalidRoster
 
 # Objects of every kind that a caller may pass.
 THINGS = (
@@ -33,6 +33,36 @@ WRONG_LINES = (
     ("c", 0), ("abca", 2), ("a" * 11 + "c", 11), ("cab-", 0), (" ", 0), ("aB", 1), ("a\n", 1),
     ("a" * 13, None), ("c" * 13, None), ("a" * 5000, None),
     (None, None), (True, None), (0, None), (("a",), None), (["a"], None), ({"a": 1}, None),
+)
+
+# The objects that are not tuples.
+NO_TUPLES = tuple(thing for thing in THINGS if not isinstance(thing, tuple))
+
+A2B2 = (("a", 2), ("b", 2))
+
+# Objects that are no forms of A2B2, by the part that is told.
+NO_PAIRS = tuple(thing for thing in THINGS if thing != ("a", 2)) + (
+    ((2, 1),), ((2, 1), "b", 0), ((2, 1), "b", None), [(2, 1), "b"], {(2, 1): "b"}, "ab",
+    (None, None, None), {0: (2, 1), 1: "b"},
+)
+WRONG_COUNTS = NO_TUPLES + (
+    (), (1,), (2, 1, 0), ((2, 1),), ("2", "1"), (2, -1), (-2, 1), (-1, 13), (-1, 0),
+    (True, 2), (2, True), (2, False), (False, 0), (2, None), (None, 1), (2, "1"), (2, (1,)),
+    ([2], 1), (2, {1: 1}), (13, 0), (0, 13), (7, 6), (10 ** 29, 0), (0, -(10 ** 29)),
+    (10 ** 29, -(10 ** 29)), tuple(range(2000)),
+)
+# Objects that are no cores of A2B2 with the counts (4, 3).
+WRONG_CORES = THINGS + (
+    "ba", "aab", "aa", "bb", "abb", "bbb", "abba", "bababa", "bc", "B", "b ", "bab\n", "cb",
+    ("b",), ["b"], {"b": 1}, (("b",),), "b" * 13, "ab" * 7,
+)
+
+# Objects that are no forms of A2B2, each with the part that is told.
+WRONG_FORMS = (
+    tuple((form, "form") for form in NO_PAIRS)
+    + tuple(((counts, "b"), "counts") for counts in WRONG_COUNTS)
+    + tuple((((4, 3), core), "core") for core in WRONG_CORES)
+    + ((((2, -1), None), "counts"), (((2, -1), "b", None), "form"), (([4, 3], "ba"), "counts"))
 )
 
 
@@ -71,6 +101,21 @@ class CrewTest(unittest.TestCase):
             with self.subTest(line=line):
                 self.check_raises(InvalidPeople, {"place": place}, function, AB, line, *others)
 
+    def check_form_next(self, function, *others):
+        """The function with a roster and a form raises InvalidForm, whatever stands behind."""
+        for form, part in WRONG_FORMS:
+            with self.subTest(form=form):
+                self.check_raises(InvalidForm, {"part": part}, function, A2B2, form, *others)
+
+    def check_goal_last(self, function):
+        """The function with a roster, a line and a goal raises InvalidPeople for the goal."""
+        for goal, place in WRONG_LINES:
+            for line in ("", "ab", "b" * 12):
+                fields = {"place": place}
+                self.check_raises(InvalidPeople, fields, function, AB, line, goal)
+        self.check_raises(InvalidPeople, {"place": 1}, function, AB, "ac", "aac")
+        self.check_raises(InvalidPeople, {"place": 2}, function, AB, "aa", "aac")
+
 
 # Rosters of one to four badges with sizes from 0 to 5, each with a length of lines up to which
 # all lines of the roster are gone through.
@@ -106,9 +151,6 @@ LONG = tuple(
     for line in lines
     for step in (1, -1)
 )
-
-# The objects that are not tuples.
-NO_TUPLES = tuple(thing for thing in THINGS if not isinstance(thing, tuple))
 
 
 def lines_of(roster, longest):
@@ -201,3 +243,16 @@ def core_by_hand(roster, line):
     while crews := crews_by_hand(roster, line):
         line = line[:crews[-1]] + line[crews[-1] + dict(roster)[line[crews[-1]]]:]
     return line
+
+
+def form_by_hand(roster, line):
+    """Point [14]: the counts and the core."""
+    return (tuple(line.count(badge) for badge, _ in roster), core_by_hand(roster, line))
+
+
+def lines_by_form(roster, longest):
+    """For each form of a line with at most that many people, all its lines in alphabetical order."""
+    found = {}
+    for line in lines_of(roster, longest):
+        found.setdefault(form_by_hand(roster, line), []).append(line)
+    return {form: sorted(lines) for form, lines in found.items()}

@@ -6,10 +6,10 @@ import unittest
 from crewstep.errors import Full, InvalidForm, InvalidPeople, InvalidRoster
 from crewstep.forms import check_form, form_of, is_form, joined_form, standard_line
 from tests.checks import (
-    AB, LONG, NO_TUPLES, THINGS, CrewTest, core_by_hand, lines_of, small_lines, steps_by_hand,
+    A2B2, AB, LONG, NO_PAIRS, WRONG_CORES, WRONG_COUNTS, CrewTest, form_by_hand, lines_of, small_lines,
+    steps_by_hand,
 )
 
-A2B2 = (("a", 2), ("b", 2))
 A3B1C0 = (("a", 3), ("b", 1), ("c", 0))
 FOUR = (("p", 3), ("q", 2), ("r", 1), ("s", 5))
 
@@ -32,27 +32,6 @@ RIGHT = (
     ((("a", 1),), ((12,), "")),
     ((("a", 5),), ((9,), "aaaa")),
 )
-
-# Objects that are no forms of A2B2, by the part that is told.
-NO_PAIRS = tuple(thing for thing in THINGS if thing != ("a", 2)) + (
-    ((2, 1),), ((2, 1), "b", 0), ((2, 1), "b", None), [(2, 1), "b"], {(2, 1): "b"}, "ab",
-    (None, None, None), {0: (2, 1), 1: "b"},
-)
-WRONG_COUNTS = NO_TUPLES + (
-    (), (1,), (2, 1, 0), ((2, 1),), ("2", "1"), (2, -1), (-2, 1), (-1, 13), (-1, 0),
-    (True, 2), (2, True), (2, False), (False, 0), (2, None), (None, 1), (2, "1"), (2, (1,)),
-    ([2], 1), (2, {1: 1}), (13, 0), (0, 13), (7, 6), (10 ** 29, 0), (0, -(10 ** 29)),
-    (10 ** 29, -(10 ** 29)), tuple(range(2000)),
-)
-# With the counts (4, 3).
-WRONG_CORES = THINGS + (
-    "ba", "aab", "aa", "bb", "abb", "bbb", "abba", "bababa", "bc", "B", "b ", "bab\n", "cb",
-    ("b",), ["b"], {"b": 1}, (("b",),), "b" * 13, "ab" * 7,
-)
-
-
-def form_by_hand(roster, line):
-    return (tuple(line.count(badge) for badge, _ in roster), core_by_hand(roster, line))
 
 
 class CheckFormTest(CrewTest):

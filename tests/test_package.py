@@ -9,7 +9,7 @@ import unittest
 TOP = os.path.dirname(os.path.dirname(os.path.abspath(__file__)))
 
 # Each function of the interface with its parameters, under its file. A parameter with "=" is
-# passed by name only and has the default value None.
+# passed by name only and has that default value.
 INTERFACE = {
     "rosters": {
         "check_roster": ["roster"], "is_roster": ["thing"], "badges_of": ["roster"],
@@ -21,7 +21,7 @@ INTERFACE = {
         "counts_of": ["roster", "line"], "turned": ["roster", "ring", "by"],
     },
     "steps": {
-        "crews_at": ["roster", "line"], "steps_of": ["roster", "line", "badge="],
+        "crews_at": ["roster", "line"], "steps_of": ["roster", "line", "badge=None"],
         "after_walk": ["roster", "line", "walk"], "undo_walk": ["roster", "line", "walk"],
     },
     "readings": {
@@ -37,7 +37,27 @@ INTERFACE = {
     "ways": {
         "why_not": ["roster", "start", "goal"], "way_between": ["roster", "start", "goal"],
     },
+    "fewest": {
+        "least_steps": ["roster", "start", "goal"], "least_way": ["roster", "start", "goal"],
+    },
+    "series": {
+        "class_size": ["roster", "form"], "reduced_words": ["roster", "counts"],
+    },
+    "ranks": {
+        "count_beginning": ["roster", "form", "word"], "first_badges": ["roster", "form"],
+        "rank_of": ["roster", "line"], "line_at": ["roster", "form", "rank"],
+        "next_line": ["roster", "line"],
+    },
 }
+
+
+def written(parameter):
+    """The parameter as INTERFACE has it."""
+    if parameter.kind == inspect.Parameter.KEYWORD_ONLY:
+        return f"{parameter.name}={parameter.default!r}"
+    if parameter.kind == inspect.Parameter.POSITIONAL_OR_KEYWORD and parameter.default is parameter.empty:
+        return parameter.name
+    return str(parameter) + " is of another kind"
 
 
 class PackageTest(unittest.TestCase):
@@ -48,14 +68,7 @@ class PackageTest(unittest.TestCase):
                 function = getattr(module, name)
                 self.assertEqual(function.__module__, "crewstep." + file)
                 found = inspect.signature(function).parameters.values()
-                self.assertEqual([one.name for one in found], [p.rstrip("=") for p in parameters])
-                for one in found:
-                    if one.name + "=" in parameters:
-                        self.assertEqual(one.kind, inspect.Parameter.KEYWORD_ONLY, name)
-                        self.assertIsNone(one.default, name)
-                    else:
-                        self.assertEqual(one.kind, inspect.Parameter.POSITIONAL_OR_KEYWORD, name)
-                        self.assertIs(one.default, inspect.Parameter.empty, name)
+                self.assertEqual([written(one) for one in found], parameters, name)
 
     def test_the_examples_of_the_readme(self):
         readme = os.path.join(TOP, "README.md")

@@ -6,11 +6,10 @@ import unittest
 from crewstep.errors import InvalidPeople, InvalidReading, InvalidRoster
 from crewstep.readings import core_of, crew_counts, is_complete, left_by, reading_of
 from tests.checks import (
-    AB, LONG, NO_TUPLES, CrewTest, core_by_hand, is_valid_by_hand, readings_by_hand, small_lines,
+    A2B2, AB, LONG, NO_TUPLES, CrewTest, core_by_hand, is_valid_by_hand, readings_by_hand, small_lines,
     steps_by_hand,
 )
 
-A2B2 = (("a", 2), ("b", 2))
 A3B1C0 = (("a", 3), ("b", 1), ("c", 0))
 FOUR = (("p", 3), ("q", 2), ("r", 1), ("s", 5))
 OF_LINES = (reading_of, core_of, crew_counts)

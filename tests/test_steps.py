@@ -6,10 +6,9 @@ from crewstep import steps
 from crewstep.errors import InvalidBadge, InvalidPeople, InvalidRoster, InvalidWalk, NotPossible
 from crewstep.steps import after_walk, crews_at, steps_of, undo_walk
 from tests.checks import (
-    AB, LONG, NO_TUPLES, THINGS, CrewTest, class_by_hand, crews_by_hand, small_lines, steps_by_hand,
+    A2B2, AB, LONG, NO_TUPLES, THINGS, CrewTest, class_by_hand, crews_by_hand, small_lines, steps_by_hand,
 )
 
-A2B2 = (("a", 2), ("b", 2))
 A3B1C0 = (("a", 3), ("b", 1), ("c", 0))
 FOUR = (("p", 3), ("q", 2), ("r", 1), ("s", 5))
 EACH_SIZE = tuple((("a", size),) for size in range(6))

@@ -7,10 +7,9 @@ from crewstep.errors import InvalidPeople, InvalidRoster, NotReachable
 from crewstep.steps import MAX_WALK, after_walk, undo_walk
 from crewstep.ways import way_between, why_not
 from tests.checks import (
-    AB, LONG, SMALL, WRONG_LINES, CrewTest, class_by_hand, core_by_hand, lines_of, steps_by_hand,
+    A2B2, AB, LONG, SMALL, CrewTest, class_by_hand, core_by_hand, lines_of, steps_by_hand,
 )
 
-A2B2 = (("a", 2), ("b", 2))
 A3B2 = (("a", 3), ("b", 2))
 A3B1C0 = (("a", 3), ("b", 1), ("c", 0))
 FOUR = (("p", 3), ("q", 2), ("r", 1), ("s", 5))
@@ -186,13 +185,8 @@ class WrongArgumentsTest(CrewTest):
 
     def test_the_goal_comes_last(self):
         for function in (why_not, way_between):
-            for goal, place in WRONG_LINES:
-                for start in ("", "ab", "b" * 12):
-                    fields = {"place": place}
-                    self.check_raises(InvalidPeople, fields, function, AB, start, goal)
-                    self.check_raises(InvalidPeople, fields, function, goal=goal, start=start, roster=AB)
-            self.check_raises(InvalidPeople, {"place": 1}, function, AB, "ac", "aac")
-            self.check_raises(InvalidPeople, {"place": 2}, function, AB, "aa", "aac")
+            self.check_goal_last(function)
+            self.check_raises(InvalidPeople, {"place": 1}, function, goal="ac", start="a", roster=AB)
 
 
 if __name__ == "__main__":
