@@ -67,6 +67,14 @@ def leaves_crews(roster, counts, core):
     return True
 
 
+def crews_beside(roster, counts, word):
+    """Return how many crews of each badge the people make up who are not in the word."""
+    return tuple([
+        (count - word.count(badge)) // size if size > 0 else 0
+        for (badge, size), count in zip(roster, counts)
+    ])
+
+
 def _is_core(roster, thing):
     # No core is longer than a line, because its letters are among the counts.
     return is_line(roster, thing) and core_of(roster, thing) == thing

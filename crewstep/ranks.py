@@ -1,11 +1,11 @@
 """Ranks: the lines of a form in alphabetical order."""
 
 from crewstep.errors import InvalidPeople, InvalidRank, InvalidWord
-from crewstep.forms import check_form, form_of, leaves_crews
+from crewstep.forms import check_form, crews_beside, form_of, leaves_crews
 from crewstep.people import check_line, counts_of
 from crewstep.readings import core_of
 from crewstep.rosters import badges_of
-from crewstep.series import WHOLE, Excursions, crews_beside
+from crewstep.series import WHOLE, Excursions
 from crewstep.values import is_int
 
 

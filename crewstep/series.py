@@ -1,7 +1,7 @@
 """Sizes of classes of lines, by the series of excursions, and numbers of reduced words."""
 
 from crewstep.errors import InvalidCounts
-from crewstep.forms import are_counts, check_form
+from crewstep.forms import are_counts, check_form, crews_beside
 from crewstep.rosters import check_roster
 
 # Stands for S where a badge x stands for S(x).
@@ -27,14 +27,6 @@ def reduced_words(roster, counts):
     for _ in range(sum(counts)):
         words = _one_letter_longer(roster, words)
     return sum(words.values())
-
-
-def crews_beside(roster, counts, word):
-    """Return how many crews of each badge the people make up who are not in the word."""
-    return tuple([
-        (count - word.count(badge)) // size if size > 0 else 0
-        for (badge, size), count in zip(roster, counts)
-    ])
 
 
 class Excursions:

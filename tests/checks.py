@@ -5,7 +5,7 @@ import copy
 import itertools
 import unittest
 
-from crewstep.errors import InvalidForm, InvalidPeople, InvalidRoster
+from crewstep.errors import InvalidForm, InvalidPeople, InvalidRoster, InvalidWalk
 
 # Objects of every kind that a caller may pass.
 THINGS = (
@@ -37,6 +37,15 @@ WRONG_LINES = (
 
 # The objects that are not tuples.
 NO_TUPLES = tuple(thing for thing in THINGS if not isinstance(thing, tuple))
+
+# What is no step at whatever index of a walk it stands.
+WRONG_STEPS = NO_TUPLES + (
+    (), (0,), (0, 1, 1), (0, 1, None), [0, 1], ((0, 1),), "01", {0: 1}, (None, None),
+    (-1, 1), (12, 1), (12, -1), (10 ** 29, 1), (-(10 ** 29), 1), (True, 1), (False, 1), (None, 1),
+    ("0", 1), ((0,), 1), ([0], 1), ({0: 1}, 1),
+    (0, 0), (0, 2), (0, -2), (0, 10 ** 29), (0, True), (0, False), (0, None), (0, "1"), (0, ">"),
+    (0, (1,)), (0, [1]), (0, {1: 1}), (1, 11),
+)
 
 A2B2 = (("a", 2), ("b", 2))
 
@@ -101,6 +110,11 @@ class CrewTest(unittest.TestCase):
             with self.subTest(line=line):
                 self.check_raises(InvalidPeople, {"place": place}, function, AB, line, *others)
 
+    def check_ring_next(self, function, *others):
+        """The function with a roster and a ring raises InvalidPeople, whatever stands behind."""
+        self.check_line_next(function, *others)
+        self.check_raises(InvalidPeople, {"place": None}, function, AB, "", *others)
+
     def check_form_next(self, function, *others):
         """The function with a roster and a form raises InvalidForm, whatever stands behind."""
         for form, part in WRONG_FORMS:
@@ -115,6 +129,46 @@ class CrewTest(unittest.TestCase):
                 self.check_raises(InvalidPeople, fields, function, AB, line, goal)
         self.check_raises(InvalidPeople, {"place": 1}, function, AB, "ac", "aac")
         self.check_raises(InvalidPeople, {"place": 2}, function, AB, "aa", "aac")
+
+
+class WalkChecks:
+    """What holds in the same way for walks of lines and of rings: a part of a test case.
+
+    Each of the functions in walks takes a roster, a line or ring with the name in people, and a walk.
+    """
+
+    def check_wrong(self, kind, index, roster, people, walk):
+        named = {"walk": walk, self.people: people, "roster": roster}
+        for function in self.walks:
+            self.check_raises(kind, {"index": index}, function, roster, people, walk)
+            self.check_raises(kind, {"index": index}, function, **named)
+
+    def test_more_than_a_thousand_steps(self):
+        for many in (1001, 1002, 2000):
+            walk = (((0, 1), (1, -1)) * 1000)[:many]
+            self.check_wrong(InvalidWalk, None, AB, "aab", walk)
+            self.check_wrong(InvalidWalk, None, AB, "aab", (None,) * many)
+
+    def test_objects_that_are_no_tuples(self):
+        for walk in NO_TUPLES + ([(0, 1)], {(0, 1): 1}, "0>"):
+            with self.subTest(walk=walk):
+                self.check_wrong(InvalidWalk, None, AB, "aab", walk)
+
+    def test_objects_that_are_no_steps(self):
+        for item in WRONG_STEPS:
+            with self.subTest(item=item):
+                self.check_wrong(InvalidWalk, 0, AB, "aab", (item,))
+                self.check_wrong(InvalidWalk, 1, AB, "aab", ((0, 1), item))
+                self.check_wrong(InvalidWalk, 2, AB, "aab", ((0, 1), (1, -1), item, None))
+
+    def test_the_roster_comes_first_and_the_people_next(self):
+        for function in self.walks:
+            for walk in ((), None, [], ((0, 0),), ((0, 1),), (None,) * 1001):
+                self.check_roster_first(function, "c", walk)
+                self.check_line_next(function, walk)
+            named = {"walk": 7, self.people: 7}
+            self.check_raises(InvalidRoster, {"entry": 0}, function, roster=(7,), **named)
+            self.check_raises(InvalidPeople, {"place": None}, function, roster=AB, **named)
 
 
 # Rosters of one to four badges with sizes from 0 to 5, each with a length of lines up to which
@@ -256,3 +310,129 @@ def lines_by_form(roster, longest):
     for line in lines_of(roster, longest):
         found.setdefault(form_by_hand(roster, line), []).append(line)
     return {form: sorted(lines) for form, lines in found.items()}
+
+
+def small_rings():
+    """Each roster of SMALL with each of its rings."""
+    for roster, line in small_lines():
+        if line:
+            yield roster, line
+
+
+def rotations_of(word):
+    """The word and all its rotations, each once for each letter."""
+    return [word[by:] + word[:by] for by in range(len(word))]
+
+
+def ring_crews_by_hand(roster, ring):
+    """Point [7], word for word: the places of a ring at which a crew stands."""
+    found = []
+    for place in range(len(ring)):
+        for badge, size in roster:
+            places = range(place, place + size)
+            if 1 <= size <= len(ring) and all(ring[p % len(ring)] == badge for p in places):
+                found.append(place)
+    return found
+
+
+def ring_steps_by_hand(roster, ring):
+    """Point [8], word for word: each possible step with the ring after it."""
+    found = {}
+    many = len(ring)
+    for place in ring_crews_by_hand(roster, ring):
+        badge, size = ring[place], dict(roster)[ring[place]]
+        for side, beside, there in ((1, place + size, place), (-1, place - 1, place + size - 1)):
+            neighbour = ring[beside % many]
+            if size < many and neighbour != badge:
+                after = list(ring)
+                for crew_place in range(place + side, place + side + size):
+                    after[crew_place % many] = badge
+                after[there % many] = neighbour
+                found[place, side] = "".join(after)
+    return found
+
+
+def ring_class_by_hand(roster, ring):
+    """Point [9]: all rings to which the ring can be walked."""
+    found = {ring}
+    front = [ring]
+    while front:
+        for other in ring_steps_by_hand(roster, front.pop()).values():
+            if other not in found:
+                found.add(other)
+                front.append(other)
+    return found
+
+
+def is_valid_on_ring_by_hand(roster, ring, left, deletion):
+    """Point [10], word for word, for a tuple of integers and the set of places that are left."""
+    if not deletion or len(set(deletion)) < len(deletion) or not set(deletion) <= left:
+        return False
+    people = {ring[place] for place in deletion}
+    if len(people) > 1 or dict(roster)[people.pop()] != len(deletion):
+        return False
+    for place, following in zip(deletion, deletion[1:]):
+        around = [(place + by) % len(ring) for by in range(1, len(ring) + 1)]
+        if [other for other in around if other in left][0] != following:
+            return False
+    return True
+
+
+def ring_deletions_by_hand(roster, ring, left):
+    """All deletions that are valid when these places of a ring are left."""
+    row = sorted(left) * 2
+    tried = [
+        tuple(row[first:first + size])
+        for size in sorted({size for _, size in roster if size <= len(left)})
+        for first in range(len(left))
+    ]
+    return [deletion for deletion in tried if is_valid_on_ring_by_hand(roster, ring, left, deletion)]
+
+
+def ring_readings_by_hand(roster, ring):
+    """For each set of places that a reading can leave: a reading, and whether it is complete."""
+    found = {}
+    front = [()]
+    while front:
+        reading = front.pop()
+        left = frozenset(range(len(ring))).difference(*reading)
+        if left not in found:
+            more = ring_deletions_by_hand(roster, ring, left)
+            found[left] = (reading, not more)
+            front.extend(reading + (deletion,) for deletion in more)
+    return found
+
+
+def ring_form_after(roster, ring, left):
+    """Points [12], [13], [15], word for word: the form, when a complete reading leaves these places."""
+    left = sorted(left)
+    word = "".join(ring[place] for place in left)
+    divisor = divisor_by_hand(roster, ring, word)
+    core = min(rotations_of(word), default="")
+    residues = [place % divisor for place, one in zip(left, rotations_of(word)) if one == core]
+    return (tuple(ring.count(badge) for badge, _ in roster), core, min(residues, default=0))
+
+
+def divisor_by_hand(roster, ring, core):
+    """Point [13]: the divisor of a ring with this core."""
+    sizes = [size for badge, size in roster if ring.count(badge) > core.count(badge)]
+    return max(d for d in range(1, len(ring) + 1) if all(n % d == 0 for n in [len(ring)] + sizes))
+
+
+def ring_form_by_hand(roster, ring):
+    """The form of the ring, by a reading that takes out any valid deletion as long as there is one."""
+    left = frozenset(range(len(ring)))
+    while deletions := ring_deletions_by_hand(roster, ring, left):
+        left = left.difference(deletions[-1])
+    return ring_form_after(roster, ring, left)
+
+
+def turn_by_hand(roster, form):
+    """Point [15]: the turn of a form of a ring."""
+    counts, core, _ = form
+    if not core:
+        return 1
+    ring = "".join(badge * count for (badge, _), count in zip(roster, counts))
+    divisor = divisor_by_hand(roster, ring, core)
+    period = min(d for d in range(1, len(core) + 1) if core[d:] + core[:d] == core)
+    return max(d for d in range(1, 13) if divisor % d == 0 and period % d == 0)

@@ -48,6 +48,24 @@ INTERFACE = {
         "rank_of": ["roster", "line"], "line_at": ["roster", "form", "rank"],
         "next_line": ["roster", "line"],
     },
+    "newcomers": {
+        "newcomers": ["roster", "line", "core", "front=False"],
+        "completion": ["roster", "line", "goal"],
+    },
+    "ringsteps": {
+        "ring_crews_at": ["roster", "ring"], "ring_steps_of": ["roster", "ring", "badge=None"],
+        "ring_after_walk": ["roster", "ring", "walk"], "ring_undo_walk": ["roster", "ring", "walk"],
+    },
+    "ringreadings": {
+        "ring_reading_of": ["roster", "ring"], "ring_left_by": ["roster", "ring", "reading"],
+        "ring_is_complete": ["roster", "ring", "reading"], "ring_core_of": ["roster", "ring"],
+        "ring_crew_counts": ["roster", "ring"], "divisor_of": ["roster", "ring"],
+    },
+    "ringforms": {
+        "check_ring_form": ["roster", "form"], "is_ring_form": ["roster", "thing"],
+        "ring_form_of": ["roster", "ring"], "standard_ring": ["roster", "form"],
+        "least_turn": ["roster", "form"], "rings_alike": ["roster", "form"],
+    },
 }
 
 

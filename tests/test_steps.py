@@ -6,21 +6,13 @@ from crewstep import steps
 from crewstep.errors import InvalidBadge, InvalidPeople, InvalidRoster, InvalidWalk, NotPossible
 from crewstep.steps import after_walk, crews_at, steps_of, undo_walk
 from tests.checks import (
-    A2B2, AB, LONG, NO_TUPLES, THINGS, CrewTest, class_by_hand, crews_by_hand, small_lines, steps_by_hand,
+    A2B2, AB, LONG, THINGS, CrewTest, WalkChecks, class_by_hand, crews_by_hand, small_lines,
+    steps_by_hand,
 )
 
 A3B1C0 = (("a", 3), ("b", 1), ("c", 0))
 FOUR = (("p", 3), ("q", 2), ("r", 1), ("s", 5))
 EACH_SIZE = tuple((("a", size),) for size in range(6))
-
-# What is no step at whatever index of a walk it stands.
-WRONG_STEPS = NO_TUPLES + (
-    (), (0,), (0, 1, 1), (0, 1, None), [0, 1], ((0, 1),), "01", {0: 1}, (None, None),
-    (-1, 1), (12, 1), (12, -1), (10 ** 29, 1), (-(10 ** 29), 1), (True, 1), (False, 1), (None, 1),
-    ("0", 1), ((0,), 1), ([0], 1), ({0: 1}, 1),
-    (0, 0), (0, 2), (0, -2), (0, 10 ** 29), (0, True), (0, False), (0, None), (0, "1"), (0, ">"),
-    (0, (1,)), (0, [1]), (0, {1: 1}), (1, 11),
-)
 
 
 class CrewsAtTest(CrewTest):
@@ -130,7 +122,10 @@ class StepsOfTest(CrewTest):
             self.check_raises(InvalidPeople, {"place": None}, steps_of, AB, None, badge=badge)
 
 
-class WalkTest(CrewTest):
+class WalkTest(WalkChecks, CrewTest):
+    walks = (after_walk, undo_walk)
+    people = "line"
+
     def check_walk(self, roster, line, walk, after):
         self.check_returns(after, after_walk, roster, line, walk)
         self.check_returns(after, after_walk, walk=walk, line=line, roster=roster)
@@ -138,10 +133,6 @@ class WalkTest(CrewTest):
         self.check_returns(back, undo_walk, walk=walk, line=line, roster=roster)
         self.check_returns(line, after_walk, roster, after, back)
         self.check_returns(walk, undo_walk, roster, after, back)
-
-    def check_wrong(self, kind, index, roster, line, walk):
-        for function in (after_walk, undo_walk):
-            self.check_raises(kind, {"index": index}, function, roster, line, walk)
 
     def test_the_limit(self):
         self.check_same(steps.MAX_WALK, 1000)
@@ -208,11 +199,6 @@ class WalkTest(CrewTest):
         self.check_walk(AB, "aab", ((0, 1), (1, -1)) * 499 + ((0, 1),), "baa")
         self.check_wrong(NotPossible, 999, AB, "aab", ((0, 1), (1, -1)) * 499 + ((0, 1), (0, 1)))
 
-    def test_more_than_a_thousand_steps(self):
-        for many in (1001, 1002, 2000):
-            self.check_wrong(InvalidWalk, None, AB, "aab", (((0, 1), (1, -1)) * 1000)[:many])
-            self.check_wrong(InvalidWalk, None, AB, "aab", (None,) * many)
-
     def test_the_first_and_the_last_place(self):
         roster = (("a", 1), ("b", 0))
         self.check_walk(roster, "a" + "b" * 11, ((0, 1),), "ba" + "b" * 10)
@@ -228,18 +214,6 @@ class WalkTest(CrewTest):
         self.check_wrong(NotPossible, 0, AB, "", ((11, -1),))
         self.check_wrong(InvalidWalk, 0, AB, "", ((0, 0),))
 
-    def test_objects_that_are_no_tuples(self):
-        for walk in NO_TUPLES + ([(0, 1)], {(0, 1): 1}, "0>"):
-            with self.subTest(walk=walk):
-                self.check_wrong(InvalidWalk, None, AB, "aab", walk)
-
-    def test_objects_that_are_no_steps(self):
-        for item in WRONG_STEPS:
-            with self.subTest(item=item):
-                self.check_wrong(InvalidWalk, 0, AB, "aab", (item,))
-                self.check_wrong(InvalidWalk, 1, AB, "aab", ((0, 1), item))
-                self.check_wrong(InvalidWalk, 2, AB, "aab", ((0, 1), (1, -1), item, None))
-
     def test_a_wrong_item_comes_before_a_step_that_is_not_possible(self):
         self.check_wrong(InvalidWalk, 1, AB, "aab", ((0, -1), (0, 0)))
         self.check_wrong(InvalidWalk, 2, AB, "aab", ((0, -1), (5, 1), (12, 1), (0, 0)))
@@ -249,14 +223,6 @@ class WalkTest(CrewTest):
     def test_only_the_first_step_that_is_not_possible_is_told(self):
         self.check_wrong(NotPossible, 1, AB, "aabb", ((0, 1), (11, 1), (0, 1)))
         self.check_wrong(NotPossible, 2, AB, "aabb", ((0, 1), (1, 1), (2, 1), (2, 1)))
-
-    def test_the_roster_and_the_line_come_before_the_walk(self):
-        for function in (after_walk, undo_walk):
-            for walk in ((), None, [], ((0, 0),), ((0, 1),), (None,) * 1001):
-                self.check_roster_first(function, "c", walk)
-                self.check_line_next(function, walk)
-            self.check_raises(InvalidRoster, {"entry": 0}, function, walk=7, line=7, roster=(7,))
-            self.check_raises(InvalidPeople, {"place": None}, function, walk=7, line=7, roster=AB)
 
 
 if __name__ == "__main__":
