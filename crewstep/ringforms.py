@@ -66,6 +66,11 @@ def rings_alike(roster, form):
     return tuple([(counts, core, residue) for residue in range(turn)])
 
 
+def period_of(core):
+    """Return the least number of letters, at least 1, that can go to the core's end without changing it."""
+    return min([by for by in range(1, len(core) + 1) if core[by:] + core[:by] == core])
+
+
 def _is_ring_core(roster, thing):
     if not is_line(roster, thing):
         return False
@@ -76,8 +81,4 @@ def _turn_of(roster, counts, core):
     if core == "":
         return 1
     divisor = common_divisor(roster, sum(counts), crews_beside(roster, counts, core))
-    return gcd(divisor, _period_of(core))
-
-
-def _period_of(core):
-    return min([by for by in range(1, len(core) + 1) if core[by:] + core[:by] == core])
+    return gcd(divisor, period_of(core))

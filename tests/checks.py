@@ -121,10 +121,15 @@ class CrewTest(unittest.TestCase):
             with self.subTest(form=form):
                 self.check_raises(InvalidForm, {"part": part}, function, A2B2, form, *others)
 
-    def check_goal_last(self, function):
+    def check_ring_goal_last(self, function):
+        """The function with a roster, a ring and a goal raises InvalidPeople for the goal."""
+        self.check_goal_last(function, ("a", "ab", "b" * 12))
+        self.check_raises(InvalidPeople, {"place": None}, function, AB, "ab", "")
+
+    def check_goal_last(self, function, lines=("", "ab", "b" * 12)):
         """The function with a roster, a line and a goal raises InvalidPeople for the goal."""
         for goal, place in WRONG_LINES:
-            for line in ("", "ab", "b" * 12):
+            for line in lines:
                 fields = {"place": place}
                 self.check_raises(InvalidPeople, fields, function, AB, line, goal)
         self.check_raises(InvalidPeople, {"place": 1}, function, AB, "ac", "aac")

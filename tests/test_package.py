@@ -66,6 +66,15 @@ INTERFACE = {
         "ring_form_of": ["roster", "ring"], "standard_ring": ["roster", "form"],
         "least_turn": ["roster", "form"], "rings_alike": ["roster", "form"],
     },
+    "ringways": {
+        "ring_why_not": ["roster", "start", "goal"], "ring_way_between": ["roster", "start", "goal"],
+    },
+    "ringseries": {
+        "ring_class_size": ["roster", "form"],
+    },
+    "edits": {
+        "is_edit": ["thing"],
+    },
 }
 
 

@@ -1,0 +1,14 @@
+"""Edits: the tuples that change a session."""
+
+# How many items an edit with this first item has.
+LENGTHS = {
+    "line": 3, "ring": 3, "drop": 2, "step": 4, "walk": 3, "enter": 4, "leave": 3, "close": 2,
+    "cut": 3, "join": 3, "part": 4,
+}
+
+
+def is_edit(thing):
+    """Tell whether the object is an edit, by its first item and its length alone."""
+    if not isinstance(thing, tuple) or len(thing) == 0 or not isinstance(thing[0], str):
+        return False
+    return LENGTHS.get(thing[0]) == len(thing)
