@@ -1,4 +1,7 @@
-"""Edits: the tuples that change a session."""
+"""Names, and the edits that change the lines and rings which have them."""
+
+MAX_NAMES = 8
+MAX_LETTERS = 8
 
 # How many items an edit with this first item has.
 LENGTHS = {
@@ -12,3 +15,10 @@ def is_edit(thing):
     if not isinstance(thing, tuple) or len(thing) == 0 or not isinstance(thing[0], str):
         return False
     return LENGTHS.get(thing[0]) == len(thing)
+
+
+def is_name(thing):
+    """Tell whether the object is a name."""
+    if not isinstance(thing, str) or not 1 <= len(thing) <= MAX_LETTERS:
+        return False
+    return all(["a" <= letter <= "z" for letter in thing])

@@ -98,4 +98,5 @@ def _lap(ring, place, size, side):
     beside = place + size if side == 1 else place - 1
     # A person with the crew's own badge needs no step: the crew also stands one place further on.
     passed = [past for past in range(many - size) if ring[(beside + side * past) % many] != ring[place]]
-    return [((place + side * past) % many, side) for past in passed]
+    # Whoever moves the lap computes the places modulo the number of people.
+    return [(place + side * past, side) for past in passed]

@@ -75,7 +75,27 @@ INTERFACE = {
     "edits": {
         "is_edit": ["thing"],
     },
+    "texts": {
+        "roster_text": ["roster"], "walk_text": ["walk"], "yard_text": ["yard"],
+    },
+    "parsing": {
+        "parse_roster": ["text"], "parse_walk": ["text"], "parse_yard": ["text"],
+    },
 }
+
+# Each class of the interface but the errors, with its methods and their parameters, under its file.
+CLASSES = {
+    "yards": ("Yard", {
+        "__init__": ["roster"], "apply": ["edit"], "together": ["edits"], "undo": [], "redo": [], "roster": [],
+        "names": [], "shape_of": ["name"], "people_of": ["name"], "form": ["name"], "are_alike": ["name", "other"],
+        "history": [], "twin": [], "__eq__": ["other"], "__len__": [], "__str__": [],
+    }),
+    "desk": ("Desk", {"__init__": ["text"], "say": ["command"]}),
+}
+
+
+def module_of(file):
+    return importlib.import_module("crewstep." + file)
 
 
 def written(parameter):
@@ -90,12 +110,21 @@ def written(parameter):
 class PackageTest(unittest.TestCase):
     def test_each_function_is_defined_in_its_file_with_its_parameters(self):
         for file, functions in INTERFACE.items():
-            module = importlib.import_module("crewstep." + file)
+            module = module_of(file)
             for name, parameters in functions.items():
                 function = getattr(module, name)
                 self.assertEqual(function.__module__, "crewstep." + file)
                 found = inspect.signature(function).parameters.values()
                 self.assertEqual([written(one) for one in found], parameters, name)
+
+    def test_each_method_is_defined_in_its_class_with_its_parameters(self):
+        for file, (name, methods) in CLASSES.items():
+            kind = getattr(module_of(file), name)
+            self.assertEqual(kind.__module__, "crewstep." + file)
+            self.assertEqual(kind.__bases__, (object,))
+            for method, parameters in methods.items():
+                found = list(inspect.signature(vars(kind)[method]).parameters.values())[1:]
+                self.assertEqual([written(one) for one in found], parameters, method)
 
     def test_the_examples_of_the_readme(self):
         readme = os.path.join(TOP, "README.md")
